@@ -37,17 +37,9 @@ func Root(err error) error {
 // Ops tells the Op of each Fault on the way from err to its root, the outermost first.
 func Ops(err error) []string {
 	var ops []string
-	astray := strays(err)
-	for err != nil {
-		f, ok := Find(err)
-		switch {
-		case ok && (!astray || same(err, f)):
+	for ; err != nil; err = below(err) {
+		if f, ok := itself(err); ok {
 			ops = append(ops, f.Op)
-			err = f.Err
-		case astray:
-			err = below(err)
-		default:
-			return ops
 		}
 	}
 	return ops
@@ -82,23 +74,12 @@ func below(err error) error {
 	return next
 }
 
-// strays tells whether errors.As may leave the way that Unwrap goes: at an
-// error that answers As itself, or at a root that holds a list of errors.
-// Where neither is, each Fault that it finds stands on the way.
-func strays(err error) bool {
-	var answers interface{ As(any) bool }
-	var list interface{ Unwrap() []error }
-	return holds(func() bool {
-		return errors.As(err, &answers) || errors.As(err, &list)
-	})
-}
-
-// same tells whether err is itself the Fault that errors.As found in it.
-// Errors of two types differ before their fields are looked at, so a
-// comparison that panics is one of two Faults.
-func same(err error, f api.Fault) bool {
-	differ := holds(func() bool { return err != error(f) })
-	return !differ
+// itself tells the Fault that err is. errors.As would not do here: it takes what
+// err only says to be, or what stands below it, and a Fault that it has found
+// can't be held against err by ==, as not every Fault is equal to itself.
+func itself(err error) (api.Fault, bool) {
+	f, ok := err.(api.Fault)
+	return f, ok
 }
 
 // holds tells what ask answers; a panic of it is a no. Errors bring methods of

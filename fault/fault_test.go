@@ -3,6 +3,7 @@ package fault_test
 import (
 	"errors"
 	"fmt"
+	"math"
 	"slices"
 	"testing"
 
@@ -225,6 +226,78 @@ func TestPosingAsFault(t *testing.T) {
 	wantWay(t, fault.Wrap("c.D", 0, err), api.ErrFull, 4, "c.D", "a.B")
 	wantWay(t, fault.Wrap("c.D", 0, endless{}), endless{}, 2, "c.D")
 	wantNotFound(t, scribbling{})
+}
+
+// number is an error that isn't equal to itself where it holds no number.
+type number struct{ n float64 }
+
+func (number) Error() string { return "number" }
+
+// shadow says by As that it is a Fault around itself, and isn't equal to itself.
+type shadow struct {
+	op   string
+	n    float64
+	next error
+}
+
+func (shadow) Error() string   { return "shadow" }
+func (e shadow) Unwrap() error { return e.next }
+func (e shadow) As(target any) bool {
+	if f, ok := target.(*api.Fault); ok {
+		*f = api.Fault{Op: e.op, Err: e}
+		return true
+	}
+	return false
+}
+
+func wantOps(t *testing.T, err error, depth int, ops ...string) {
+	t.Helper()
+	if got := fault.Ops(err); !slices.Equal(got, ops) {
+		t.Errorf("Ops(%v) is %q, not %q", err, got, ops)
+	}
+	if got := fault.Depth(err); got != depth {
+		t.Errorf("Depth(%v) is %d, not %d", err, got, depth)
+	}
+}
+
+// P1.2: a Fault on the way counts, though it isn't equal to itself, wherever
+// one that poses as a Fault stands.
+func TestOpsOfUnequalFaults(t *testing.T) {
+	nan := number{math.NaN()}
+	inner := fault.Wrap("a.B", 1, nan)
+	other := api.Fault{Op: "other", At: 5}
+	wantOps(t, inner, 2, "a.B")
+	wantOps(t, fault.Wrap("c.D", 0, posing{f: other, next: inner}), 4, "c.D", "a.B")
+	wantOps(t, posing{f: other, next: fault.Wrap("c.D", 0, inner)}, 4, "c.D", "a.B")
+	wantOps(t, posing{f: api.Fault{Op: "a.B", At: 1, Err: nan}, next: inner}, 3, "a.B")
+	wantOps(t, fmtless{posing{f: other, next: fmtless{inner}}}, 5, "a.B")
+	joins := fault.Wrap("c.D", 0, fault.Wrap("a.B", 1, errors.Join(nan, inner)))
+	wantOps(t, joins, 3, "c.D", "a.B")
+	wantOps(t, fault.Wrap("e.F", 2, broken{joins}), 5, "e.F", "c.D", "a.B")
+}
+
+// P1.2: what poses as the very Fault that might wrap it is none.
+func TestOpsOfShadows(t *testing.T) {
+	end := shadow{op: "c.D", n: math.NaN()}
+	wantOps(t, end, 1)
+	wantOps(t, fmtless{end}, 2)
+	wantOps(t, fault.Wrap("c.D", 0, end), 2, "c.D")
+	mid := shadow{op: "c.D", n: math.NaN(), next: fault.Wrap("a.B", 1, end)}
+	wantOps(t, fmtless{mid}, 4, "a.B")
+	wantOps(t, fault.Wrap("c.D", 0, mid), 4, "c.D", "a.B")
+	wantOps(t, &api.Fault{Op: "c.D", Err: mid}, 4, "a.B")
+}
+
+// P1.2: a deep way with one that poses at its end is gone in one pass.
+func TestDeepWayToPosing(t *testing.T) {
+	const deep = 1<<16 - 2
+	var err error = shadow{op: "c.D", n: math.NaN()}
+	for range deep {
+		err = fault.Wrap("c.D", 0, err)
+	}
+	if n := len(fault.Ops(err)); n != deep {
+		t.Errorf("%d Ops of a deep way", n)
+	}
 }
 
 // P1.2: as deep as the bound lets errors be nested.
